@@ -1,0 +1,62 @@
+"""Shapes: cells that hang together, their pieces, their forms, and cuts."""
+
+from gripwood.turning import turned_cells, turns
+from gripwood.ways import place, step, ways, ways_of
+
+
+def hangs(cells):
+    """Whether cells hang together."""
+    return len(pieces(cells)) <= 1
+
+
+def pieces(cells):
+    """The greatest parts of cells that hang together, each one rising, by their least cells."""
+    left = {cell: True for cell in cells}
+    found = []
+    for cell in sorted(cells):
+        if cell in left:
+            found.append(take_piece(left, cell))
+    return found
+
+
+def take_piece(left, first):
+    """Takes out of the dict of cells the piece that has the first one, and tells it as a rising list."""
+    del left[first]
+    piece = []
+    waiting = [first]
+    while waiting:
+        cell = waiting.pop()
+        piece.append(cell)
+        for way in ways():
+            near = step(cell, way, 1)
+            if near in left:
+                del left[near]
+                waiting.append(near)
+    return sorted(piece)
+
+
+def form(cells):
+    """The least of all rising lists that come of cells by a turn and by shifting them to 0."""
+    if not cells:
+        return []
+    return min([settled(turned_cells(cells, turn)) for turn in turns()])
+
+
+def settled(cells):
+    """The rising list of cells, shifted so that their least x, least y and least z are 0."""
+    low_x, low_y, low_z = [min(numbers) for numbers in zip(*cells)]
+    return sorted([(x - low_x, y - low_y, z - low_z) for x, y, z in cells])
+
+
+def alike(one, other):
+    """Whether two shapes have one form."""
+    return form(one) == form(other)
+
+
+def cut(cells, line, at):
+    """The cells whose number on a line is less than at, and the others: a pair of rising lists."""
+    # On the first way of a line the place of a cell is its number itself.
+    forth = ways_of(line)[0]
+    less = [cell for cell in cells if place(cell, forth) < at]
+    rest = [cell for cell in cells if place(cell, forth) >= at]
+    return sorted(less), sorted(rest)

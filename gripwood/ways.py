@@ -1,0 +1,71 @@
+"""The six ways, the three lines, and where cells lie along them."""
+
+from gripwood.errors import BadLine, BadWay
+
+LINES = ("long", "broad", "high")
+
+# Which of a cell's numbers a step on the way changes, and by how much; the order is that of the ways.
+STEPS = {
+    "east": (0, 1),
+    "west": (0, -1),
+    "north": (1, 1),
+    "south": (1, -1),
+    "up": (2, 1),
+    "down": (2, -1),
+}
+
+
+def ways():
+    """The six ways, in their order."""
+    return list(STEPS)
+
+
+def lines():
+    """The three lines, in their order."""
+    return list(LINES)
+
+
+def step_on(way):
+    """The pair of STEPS for a way; every way that is handed in is looked at here."""
+    if way not in STEPS:
+        raise BadWay(f"{way!r} is no way")
+    return STEPS[way]
+
+
+def back(way):
+    """The way that leads back."""
+    forth, other = ways_of(line_of(way))
+    return other if way == forth else forth
+
+
+def line_of(way):
+    """The line on which a way leads."""
+    at, by = step_on(way)
+    return LINES[at]
+
+
+def ways_of(line):
+    """The two ways of a line, the one that makes a cell's number greater first."""
+    if line not in LINES:
+        raise BadLine(f"{line!r} is no line")
+    return [way for way in STEPS if LINES[STEPS[way][0]] == line]
+
+
+def step(cell, way, many):
+    """The cell that is many steps away on a way."""
+    at, by = step_on(way)
+    numbers = list(cell)
+    numbers[at] += by * many
+    return tuple(numbers)
+
+
+def place(cell, way):
+    """How far a cell lies on a way."""
+    at, by = step_on(way)
+    return by * cell[at]
+
+
+def lane(cell, way):
+    """The pair of the two numbers of a cell that no step on a way changes."""
+    at, by = step_on(way)
+    return cell[:at] + cell[at + 1:]
