@@ -11,28 +11,28 @@ def hangs(cells):
 
 def pieces(cells):
     """The greatest parts of cells that hang together, each one rising, by their least cells."""
+    near = {cell: [step(cell, way, 1) for way in ways()] for cell in cells}
     left = {cell: True for cell in cells}
     found = []
     for cell in sorted(cells):
         if cell in left:
-            found.append(take_piece(left, cell))
+            found.append(take_linked(left, near, cell))
     return found
 
 
-def take_piece(left, first):
-    """Takes out of the dict of cells the piece that has the first one, and tells it as a rising list."""
+def take_linked(left, links, first):
+    """Takes the first one, and all in the dict to which links lead from it on, out of the dict; tells them rising."""
     del left[first]
-    piece = []
+    taken = []
     waiting = [first]
     while waiting:
-        cell = waiting.pop()
-        piece.append(cell)
-        for way in ways():
-            near = step(cell, way, 1)
-            if near in left:
-                del left[near]
-                waiting.append(near)
-    return sorted(piece)
+        one = waiting.pop()
+        taken.append(one)
+        for other in links[one]:
+            if other in left:
+                del left[other]
+                waiting.append(other)
+    return sorted(taken)
 
 
 def form(cells):

@@ -25,10 +25,15 @@ def lines():
     return list(LINES)
 
 
-def step_on(way):
-    """The pair of STEPS for a way; every way that is handed in is looked at here."""
+def check_way(way):
+    """Refuses a text that is no way."""
     if way not in STEPS:
         raise BadWay(f"{way!r} is no way")
+
+
+def step_on(way):
+    """The pair of STEPS for a way."""
+    check_way(way)
     return STEPS[way]
 
 

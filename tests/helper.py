@@ -1,5 +1,8 @@
 """What several test files use."""
 
+import copy
+import itertools
+import random
 import signal
 import unittest
 from contextlib import contextmanager
@@ -14,6 +17,9 @@ VECTORS = {
     "north": (0, 1, 0), "south": (0, -1, 0),
     "up": (0, 0, 1), "down": (0, 0, -1),
 }
+
+WAYS = list(VECTORS)
+BACKS = {"east": "west", "west": "east", "north": "south", "south": "north", "up": "down", "down": "up"}
 
 NO_WAYS = ["", " ", "long", "broad", "high", "East", "EAST", " east", "east ", "eas", "easts", "east\n",
            "left", "0", "east,west", "east west"]
@@ -53,6 +59,68 @@ def all_turns():
     return sorted(found)
 
 
+def place_on(cell, way):
+    return sum(number * by for number, by in zip(cell, VECTORS[way]))
+
+
+def lane_on(cell, way):
+    return tuple(number for number, by in zip(cell, VECTORS[way]) if by == 0)
+
+
+def meetings_on(stack, way, one, other):
+    """All pairs of cells by which the other block lies ahead of the one, by the words of [7]."""
+    blocks = dict(stack)
+    return [(cell, farther) for cell in blocks[one] for farther in blocks[other]
+            if lane_on(cell, way) == lane_on(farther, way) and place_on(cell, way) < place_on(farther, way)]
+
+
+def pairs_on(stack, way):
+    """All pairs of [7], rising, apart from the program."""
+    return [pair for pair in itertools.permutations(sorted(dict(stack)), 2) if meetings_on(stack, way, *pair)]
+
+
+def leaves_on(stack, way, group):
+    """Whether a group goes out, by the words of [8]."""
+    return all(other in group for one, other in pairs_on(stack, way) if one in group)
+
+
+def groups_of(stack):
+    """All groups of a stack, each one rising, from the one of no block to the one of all."""
+    numbers = [number for number, cells in stack]
+    return [list(group) for many in range(len(numbers) + 1) for group in itertools.combinations(numbers, many)]
+
+
+def shuffled(group, chance):
+    """The same group in another order, with a number twice where it has one."""
+    mixed = group + group[:1]
+    chance.shuffle(mixed)
+    return mixed
+
+
+def wild_stacks(seed, many, most_blocks=5, most_cells=3, sides=(3, 3, 2)):
+    """So many stacks of blocks thrown together by chance, yet the same ones for the same seed."""
+    chance = random.Random(seed)
+    stacks = []
+    for at in range(many):
+        cells = [tuple(number - 1 for number in cell) for cell in itertools.product(*map(range, sides))]
+        chance.shuffle(cells)
+        numbers = sorted(chance.sample(range(30), chance.randint(1, most_blocks)))
+        stacks.append([(number, sorted(cells.pop() for at in range(chance.randint(1, most_cells))))
+                       for number in numbers])
+    return stacks
+
+
+def spoil(told):
+    """Changes every list within what was told or handed in."""
+    if isinstance(told, (list, tuple)):
+        for within in told:
+            spoil(within)
+    if isinstance(told, list):
+        told.reverse()
+        told.append("spoilt")
+        del told[:1]
+
+
 class WoodCase(unittest.TestCase):
     """A test case that also looks at kinds: True is no 1, and a tuple is no list."""
 
@@ -66,3 +134,16 @@ class WoodCase(unittest.TestCase):
         self.assertIs(type(caught.exception), kind)
         self.assertEqual(caught.exception.word, word)
         return caught.exception
+
+    def keeps_nothing(self, call, *handed):
+        """What is handed in stays as it was, and neither it nor what is told is kept by the program or by the other."""
+        given = copy.deepcopy(handed)
+        told = call(*given)
+        self.same(given, handed)
+        wanted = copy.deepcopy(told)
+        spoil(given)
+        self.same(told, wanted)
+        given = copy.deepcopy(handed)
+        spoil(call(*given))
+        self.same(given, handed)
+        self.same(call(*given), wanted)

@@ -97,6 +97,24 @@ class Language(unittest.TestCase):
                     self.assertTrue(node.module.startswith("gripwood.") and node.level == 0, file)
                     self.assertNotIn("*", [name.name for name in node.names], file)
 
+    def test_imports_name_the_file_that_defines_the_name(self):
+        defined = {name[:-3]: [node.name for node in tree.body if isinstance(node, (ast.FunctionDef, ast.ClassDef))]
+                   for name, text, tree in parsed()}
+        for file, text, tree in parsed():
+            for node in tree.body:
+                if isinstance(node, ast.ImportFrom):
+                    for name in node.names:
+                        self.assertIn(name.name, defined[node.module.partition(".")[2]], file)
+
+    def test_no_two_files_import_from_each_other(self):
+        left = {name[:-3]: [node.module.partition(".")[2] for node in tree.body if isinstance(node, ast.ImportFrom)]
+                for name, text, tree in parsed()}
+        while left:
+            done = [name for name in left if not any(other in left for other in left[name])]
+            self.assertTrue(done, sorted(left))
+            for name in done:
+                del left[name]
+
     def test_no_name_of_an_import_or_a_class_is_given_to_something_else(self):
         for file, text, tree in parsed():
             fixed = [name.name for node in tree.body if isinstance(node, ast.ImportFrom) for name in node.names]
