@@ -1,7 +1,7 @@
 """What the modules about stacks share: blocks by their numbers, parts of a stack, and its cells lane by lane."""
 
 from gripwood.errors import NoBlock
-from gripwood.ways import check_way, lane, place
+from gripwood.ways import check_way, lane, place, step
 
 
 def numbers_of(stack):
@@ -27,6 +27,23 @@ def part_of(stack, group):
     """The stack of just the blocks of a group."""
     chosen = {number: True for number in group}
     return [(number, list(cells)) for number, cells in stack if number in chosen]
+
+
+def rest_of(stack, group):
+    """The stack of all blocks but those of a group."""
+    chosen = {number: True for number in group}
+    return [(number, list(cells)) for number, cells in stack if number not in chosen]
+
+
+def cells_of(stack):
+    """The cells of all blocks."""
+    return [cell for number, cells in stack for cell in cells]
+
+
+def shifted(stack, way, steps):
+    """The stack in which each block lies as many steps farther as the dict tells for it."""
+    # All cells of a block go equally far, so they rise as before.
+    return [(number, [step(cell, way, steps[number]) for cell in cells]) for number, cells in stack]
 
 
 def lanes(stack, way):

@@ -21,6 +21,9 @@ VECTORS = {
 WAYS = list(VECTORS)
 BACKS = {"east": "west", "west": "east", "north": "south", "south": "north", "up": "down", "down": "up"}
 
+LINE_WAYS = {"long": ["east", "west"], "broad": ["north", "south"], "high": ["up", "down"]}
+LINES = list(LINE_WAYS)
+
 NO_WAYS = ["", " ", "long", "broad", "high", "East", "EAST", " east", "east ", "eas", "easts", "east\n",
            "left", "0", "east,west", "east west"]
 NO_LINES = ["", " ", "east", "west", "north", "south", "up", "down", "Long", "LONG", " long", "long ", "lon",
@@ -81,13 +84,41 @@ def pairs_on(stack, way):
 
 def leaves_on(stack, way, group):
     """Whether a group goes out, by the words of [8]."""
-    return all(other in group for one, other in pairs_on(stack, way) if one in group)
+    return not any(meetings_on(stack, way, one, other) for one in group for other in dict(stack) if other not in group)
+
+
+def pulls_on(stack, lines):
+    """All pulls on open lines, by the words of [10]."""
+    return [(way, group) for line in lines for way in LINE_WAYS[line] for group in groups_of(stack)
+            if 0 < len(group) < len(stack) and leaves_on(stack, way, group)]
+
+
+def subsets(things):
+    """All lists of some of the things, from none of them to all."""
+    return [list(some) for many in range(len(things) + 1) for some in itertools.combinations(things, many)]
+
+
+def part(stack, group):
+    return [(number, cells) for number, cells in stack if number in group]
+
+
+def led_way(way, turn):
+    return {vector: name for name, vector in VECTORS.items()}[led_vector(VECTORS[way], turn)]
+
+
+def led_line(line, turn):
+    return next(name for name in LINES if led_way(LINE_WAYS[line][0], turn) in LINE_WAYS[name])
+
+
+def led_stack(stack, turn, by):
+    """The stack turned, and then shifted."""
+    return [(number, sorted(tuple(map(sum, zip(led_vector(cell, turn), by))) for cell in cells))
+            for number, cells in stack]
 
 
 def groups_of(stack):
     """All groups of a stack, each one rising, from the one of no block to the one of all."""
-    numbers = [number for number, cells in stack]
-    return [list(group) for many in range(len(numbers) + 1) for group in itertools.combinations(numbers, many)]
+    return subsets([number for number, cells in stack])
 
 
 def shuffled(group, chance):
@@ -97,7 +128,7 @@ def shuffled(group, chance):
     return mixed
 
 
-def wild_stacks(seed, many, most_blocks=5, most_cells=3, sides=(3, 3, 2)):
+def wild_stacks(seed, many, most_blocks=5, most_cells=3, sides=(3, 3, 2), least_cells=1):
     """So many stacks of blocks thrown together by chance, yet the same ones for the same seed."""
     chance = random.Random(seed)
     stacks = []
@@ -105,7 +136,7 @@ def wild_stacks(seed, many, most_blocks=5, most_cells=3, sides=(3, 3, 2)):
         cells = [tuple(number - 1 for number in cell) for cell in itertools.product(*map(range, sides))]
         chance.shuffle(cells)
         numbers = sorted(chance.sample(range(30), chance.randint(1, most_blocks)))
-        stacks.append([(number, sorted(cells.pop() for at in range(chance.randint(1, most_cells))))
+        stacks.append([(number, sorted(cells.pop() for at in range(chance.randint(least_cells, most_cells))))
                        for number in numbers])
     return stacks
 
@@ -134,6 +165,18 @@ class WoodCase(unittest.TestCase):
         self.assertIs(type(caught.exception), kind)
         self.assertEqual(caught.exception.word, word)
         return caught.exception
+
+    def is_stack(self, told, numbers):
+        """The form of [6], with just these numbers."""
+        self.assertIs(type(told), list)
+        self.assertEqual([number for number, cells in told], numbers)
+        for block in told:
+            self.assertIs(type(block), tuple)
+            self.assertIs(type(block[1]), list)
+            self.assertEqual(block[1], sorted(block[1]))
+            self.assertEqual({(type(cell), len(cell)) for cell in block[1]}, {(tuple, 3)})
+        cells = [cell for number, cells in told for cell in cells]
+        self.assertEqual(len(cells), len(set(cells)))
 
     def keeps_nothing(self, call, *handed):
         """What is handed in stays as it was, and neither it nor what is told is kept by the program or by the other."""
