@@ -29,10 +29,13 @@ def row(stack, way, one, other):
     """A shortest row from one block to another one, or None where there is none."""
     check_asked(stack, way, [one, other])
     before = reached(stack, way, [one])
-    if other not in before:
-        return None
-    told = [other]
-    while told[-1] != one:
+    return trail(before, other) if other in before else None
+
+
+def trail(before, last):
+    """The row to the last block, where the dict has for each block the one before it, and None for the first one."""
+    told = [last]
+    while before[told[-1]] is not None:
         told.append(before[told[-1]])
     return told[::-1]
 

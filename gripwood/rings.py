@@ -7,6 +7,11 @@ from gripwood.ways import back
 
 def rings(stack, way):
     """All rings, by their first blocks."""
+    return sorted(leaving_rings(stack, way))
+
+
+def leaving_rings(stack, way):
+    """All rings in an order in which each one goes out of those that are left by then."""
     order = leaving_order(followers(stack, way))
     # Rows to the block that was left last come only from its own ring, or from rings that are taken out already.
     behind = followers(stack, back(way))
@@ -15,7 +20,7 @@ def rings(stack, way):
     for number in order[::-1]:
         if number in left:
             found.append(take_linked(left, behind, number))
-    return sorted(found)
+    return found[::-1]
 
 
 def followers(stack, way):

@@ -11,12 +11,19 @@ def hangs(cells):
 
 def pieces(cells):
     """The greatest parts of cells that hang together, each one rising, by their least cells."""
-    near = {cell: [step(cell, way, 1) for way in ways()] for cell in cells}
-    left = {cell: True for cell in cells}
+    return linked({cell: [step(cell, way, 1) for way in ways()] for cell in cells})
+
+
+def linked(links):
+    """The keys of a dict in the parts that its links hold together, each one rising, by their first keys.
+
+    Links between keys lead back as well; those to what is no key are passed over.
+    """
+    left = {one: True for one in links}
     found = []
-    for cell in sorted(cells):
-        if cell in left:
-            found.append(take_linked(left, near, cell))
+    for one in sorted(links):
+        if one in left:
+            found.append(take_linked(left, links, one))
     return found
 
 

@@ -31,6 +31,26 @@ def check_way(way):
         raise BadWay(f"{way!r} is no way")
 
 
+def check_line(line):
+    """Refuses a text that is no line."""
+    if line not in LINES:
+        raise BadLine(f"{line!r} is no line")
+
+
+def ordered_ways(chosen):
+    """The ways of a list once each, in their order."""
+    for way in chosen:
+        check_way(way)
+    return [way for way in STEPS if way in chosen]
+
+
+def forth_ways(chosen):
+    """For each line of a list, once each and in their order, the way that makes a cell's number greater."""
+    for line in chosen:
+        check_line(line)
+    return [ways_of(line)[0] for line in LINES if line in chosen]
+
+
 def step_on(way):
     """The pair of STEPS for a way."""
     check_way(way)
@@ -51,8 +71,7 @@ def line_of(way):
 
 def ways_of(line):
     """The two ways of a line, the one that makes a cell's number greater first."""
-    if line not in LINES:
-        raise BadLine(f"{line!r} is no line")
+    check_line(line)
     return [way for way in STEPS if LINES[STEPS[way][0]] == line]
 
 

@@ -16,6 +16,8 @@ BARRED_WORDS = re.compile(r"\b(type|typing|typing_extensions|enum|Enum|IntEnum|S
                           r"|dataclass|overload|contextmanager")
 BARRED_NAMES = "register mro elements open input version_info with_traceback add_note format format_map".split()
 BARRED_NODES = (ast.Global, ast.AsyncFunctionDef, ast.AsyncFor, ast.AsyncWith, ast.Await, ast.Import, ast.Div)
+BARRED_ATTRIBUTES = """items keys values pop update append clear extend insert remove reverse setdefault sort args encode
+decode hex fromhex format""".split()
 DOUBLE_NAMES = "__init__ __eq__ __repr__ __str__ __len__ __enter__ __exit__ __call__ __iter__".split()
 
 
@@ -46,6 +48,13 @@ def bound_names(tree):
             yield node.id
         elif isinstance(node, ast.alias):
             yield node.asname or node.name
+        elif isinstance(node, ast.ExceptHandler) and node.name:
+            yield node.name
+
+
+def attributes(tree, kind):
+    """The names of all attributes that are read or, where the kind is ast.Store, assigned."""
+    return [node.attr for node in ast.walk(tree) if isinstance(node, ast.Attribute) and isinstance(node.ctx, kind)]
 
 
 class Language(unittest.TestCase):
@@ -121,6 +130,35 @@ class Language(unittest.TestCase):
             fixed += [node.name for node in tree.body if isinstance(node, ast.ClassDef)]
             names = list(bound_names(tree))
             self.assertEqual([name for name in fixed if names.count(name) != 1], [], file)
+
+    def test_no_name_is_a_method_and_an_attribute(self):
+        called = [node.name for file, text, tree in parsed() for node in methods(tree)]
+        for file, text, tree in parsed():
+            for name in attributes(tree, ast.Store):
+                self.assertNotIn(name, called + BARRED_ATTRIBUTES, file)
+
+    def test_no_method_is_defined_twice_in_a_class(self):
+        for file, text, tree in parsed():
+            for kind in [node for node in ast.walk(tree) if isinstance(node, ast.ClassDef)]:
+                names = [node.name for node in kind.body if isinstance(node, ast.FunctionDef)]
+                self.assertEqual(len(names), len(set(names)), (file, kind.name))
+
+    def test_attributes_that_are_read_are_assigned_or_called(self):
+        assigned = [name for file, text, tree in parsed() for name in attributes(tree, ast.Store)]
+        for file, text, tree in parsed():
+            called = [node.func for node in ast.walk(tree) if isinstance(node, ast.Call)]
+            for node in ast.walk(tree):
+                if isinstance(node, ast.Attribute) and isinstance(node.ctx, ast.Load) and node not in called:
+                    self.assertIn(node.attr, assigned, file)
+
+    def test_nothing_is_walked_through_in_the_order_of_a_set(self):
+        for file, text, tree in parsed():
+            for node in ast.walk(tree):
+                if isinstance(node, (ast.For, ast.comprehension)):
+                    walked = node.iter
+                    self.assertNotIsInstance(walked, (ast.Set, ast.SetComp), file)
+                    named = isinstance(walked, ast.Call) and isinstance(walked.func, ast.Name)
+                    self.assertFalse(named and walked.func.id in ("set", "frozenset"), file)
 
     def test_names_that_are_read_are_known(self):
         for file, text, tree in parsed():
