@@ -7,7 +7,22 @@ import signal
 import unittest
 from contextlib import contextmanager
 
+from gripwood.workshop import Workshop
+
 GREAT = 10 ** 30 - 1
+
+NAMES = ["heap", "lay", "burn", "carve", "plug", "saw", "peg", "unpeg", "pull", "home", "turn", "shift", "press", "bar",
+         "unbar", "draft"]
+
+# The refusals with their words.
+WORDS = {
+    "BadCell": "bad cell", "BadWay": "bad way", "BadLine": "bad line", "BadTurn": "bad turn",
+    "BadMeasure": "bad measure", "NoBlock": "no block", "NoPile": "no pile", "NoPeg": "no peg",
+    "NoPlan": "no plan", "NoWood": "no wood", "Loose": "loose", "Touch": "touch", "Held": "held",
+    "Last": "last", "NoCut": "no cut", "Same": "same", "Whole": "whole", "Torn": "torn", "Barred": "barred",
+    "NotBarred": "not barred", "Stopped": "stopped", "TooMany": "too many", "BadPull": "bad pull",
+    "NothingBack": "nothing back", "NothingForth": "nothing forth", "BadText": "bad text",
+}
 
 # The two turns that DOC.md tells, of which all others come.
 TOLD_TURNS = [("north", "west", "up"), ("north", "up", "east")]
@@ -213,6 +228,44 @@ def spoil(told):
         told.reverse()
         told.append("spoilt")
         del told[:1]
+
+
+# Deeds that can be done one behind the other, each of the sixteen among them, with what each one tells and its text.
+STORY = [
+    (("heap",), 0, "heap"),
+    (("lay", 0, [(1, 0, 0), (0, 0, 0)]), 0, "lay 0 1,0,0 0,0,0"),
+    (("lay", 0, [(2, 0, 0)]), 1, "lay 0 2,0,0"),
+    (("plug", 1, (3, 0, 0)), None, "plug 1 3,0,0"),
+    (("peg", 0, (0, 0, 0), "east", 3), 0, "peg 0 0,0,0 east 3"),
+    (("unpeg", 0), None, "unpeg 0"),
+    (("saw", 0, "long", 1), [2], "saw 0 long 1"),
+    (("carve", 0, (3, 0, 0)), [], "carve 0 3,0,0"),
+    (("pull", 0, "up", [2, 1, 2]), 1, "pull 0 up 2,1,2"),
+    (("home", 0, 1, "down"), None, "home 0 1 down"),
+    (("turn", 0, ("south", "east", "up")), None, "turn 0 south,east,up"),
+    (("shift", 0, (0, -1, 5)), None, "shift 0 0,-1,5"),
+    (("press", 0, "west"), None, "press 0 west"),
+    (("bar", "high"), None, "bar high"),
+    (("unbar", "high"), None, "unbar high"),
+    (("draft", 0), 0, "draft 0"),
+    (("burn", 1), None, "burn 1"),
+]
+
+
+def shop_of(deeds):
+    """A new workshop in which these deeds were done."""
+    shop = Workshop()
+    for name, *handed in copy.deepcopy(deeds):
+        getattr(shop, name)(*handed)
+    return shop
+
+
+def model_of(deeds):
+    """A new model in which these deeds were done; its plans are not filled in."""
+    model = Model()
+    for deed in deeds:
+        model.do(*deed)
+    return model
 
 
 def answers(shop):
@@ -588,6 +641,103 @@ class Model:
         # Which plan is kept is not promised, so it is filled in by whoever asked the program for it.
         self.kept.append((pile, None))
         return len(self.kept) - 1
+
+
+LENGTHS = (-10 ** 29, -1, 0, 1, 4, 12, 13, 14, 10 ** 29)
+
+
+class Thrower:
+    """Deeds by chance over what is there in a model; now and then something that is not there."""
+
+    def __init__(self, seed, model, wrong=8):
+        self.chance = random.Random(seed)
+        self.model = model
+        self.wrong = wrong
+
+    def seldom(self):
+        return self.chance.randrange(100) < self.wrong
+
+    def one_of(self, things, others):
+        things = list(things)
+        return self.chance.choice(list(others) if self.seldom() or not things else things)
+
+    def pile(self):
+        return self.one_of(self.model.heaps, (-1, 50, 1000, 10 ** 29))
+
+    def block(self):
+        return self.one_of(self.model.wood, (-1, 300, 10 ** 29))
+
+    def way(self):
+        return self.one_of(WAYS, NO_WAYS)
+
+    def line(self):
+        return self.one_of(LINES, ("east", "", "Long", "deep"))
+
+    def cell(self):
+        side = self.chance.choice((2, 3, 31) if self.seldom() else (1, 1, 2))
+        return tuple(self.chance.randint(-side, side) for at in range(3))
+
+    def cells(self):
+        found = [self.cell()]
+        while self.chance.randrange(5) and len(found) < 6:
+            near = list(self.chance.choice(found))
+            near[self.chance.randrange(3)] += self.chance.choice((-1, 1))
+            if tuple(near) not in found:
+                found.append(tuple(near))
+        if self.seldom():
+            found = self.chance.choice(([], found + found[:1], [*found, (31, 0, 0)], [*found, self.cell()],
+                                        [*found, (0, -31, 0), found[0]]))
+        self.chance.shuffle(found)
+        return found
+
+    def wood_near(self, pile):
+        """A cell of wood of the pile, where it has some."""
+        return self.one_of(self.model.owners(pile), (self.cell(), (31, 31, 31), (0, 0, 10 ** 29)))
+
+    def group(self, pile, way):
+        own = self.model.blocks(pile)
+        found = [block for block in own if self.chance.randrange(2)]
+        if own and self.chance.randrange(3):
+            found = [self.chance.choice(own)]
+            if way in WAYS and not self.seldom():
+                found = self.model.along(pile, way, found)
+        if self.seldom():
+            found = self.chance.choice(([], own, found + found[:1], [*found, self.block()], [*found, -1]))
+        self.chance.shuffle(found)
+        return found
+
+    def near(self, block):
+        """A cell beside one of the block's, where it is there."""
+        cell = list(self.one_of(self.model.wood.get(block, (0, []))[1], (self.cell(), (30, 0, 0), (-2, 0, -30))))
+        cell[self.chance.randrange(3)] += self.chance.choice((-1, 1))
+        return tuple(cell)
+
+    def cut(self):
+        block, line = self.block(), self.line()
+        cells = self.model.wood.get(block, (0, []))[1]
+        inner = {cell[LINES.index(line)] for cell in cells} if line in LINES else ()
+        return block, line, self.one_of(sorted(inner), (-40, 0, 1, 10 ** 29))
+
+    def rod(self, pile):
+        """A cell and a way from one block into another one, where there are such; seldom into the same one."""
+        owners = self.model.owners(pile)
+        inner = [(cell, way) for cell in owners for way in WAYS if self.model.rod(cell, way, 2)[1] in owners]
+        fit = [(cell, way) for cell, way in inner if owners[cell] != owners[self.model.rod(cell, way, 2)[1]]]
+        return self.one_of(fit, inner + [(self.wood_near(pile), self.way()), (self.cell(), self.way())])
+
+    def handed(self, name):
+        pile, block, way = self.pile(), self.block(), self.way()
+        return {
+            "heap": lambda: (), "lay": lambda: (pile, self.cells()), "burn": lambda: (block,),
+            "carve": lambda: (pile, self.wood_near(pile)), "plug": lambda: (block, self.near(block)),
+            "saw": self.cut, "peg": lambda: (pile, *self.rod(pile), self.one_of((2, 2, 2, 3), LENGTHS)),
+            "unpeg": lambda: (self.one_of(self.model.rods, (-1, 99)),),
+            "pull": lambda: (pile, way, self.group(pile, way)), "home": lambda: (pile, self.pile(), way),
+            "turn": lambda: (pile, self.one_of(TURNS, [("west", "north", "up"), ("", "up", "x")])),
+            "shift": lambda: (pile, self.one_of([(0, 0, 0), (1, 0, -1), (0, 2, 0)], [(40, 0, 0), (0, 0, -10 ** 29)])),
+            "press": lambda: (pile, way), "bar": lambda: (self.line(),), "unbar": lambda: (self.line(),),
+            "draft": lambda: (pile,),
+        }[name]()
 
 
 class WoodCase(unittest.TestCase):

@@ -5,16 +5,8 @@ import pickle
 import unittest
 
 from gripwood import errors
-from tests.helper import WoodCase
+from tests.helper import WORDS, WoodCase
 
-WORDS = {
-    "BadCell": "bad cell", "BadWay": "bad way", "BadLine": "bad line", "BadTurn": "bad turn",
-    "BadMeasure": "bad measure", "NoBlock": "no block", "NoPile": "no pile", "NoPeg": "no peg",
-    "NoPlan": "no plan", "NoWood": "no wood", "Loose": "loose", "Touch": "touch", "Held": "held",
-    "Last": "last", "NoCut": "no cut", "Same": "same", "Whole": "whole", "Torn": "torn", "Barred": "barred",
-    "NotBarred": "not barred", "Stopped": "stopped", "TooMany": "too many", "BadPull": "bad pull",
-    "NothingBack": "nothing back", "NothingForth": "nothing forth", "BadText": "bad text",
-}
 FIELDS = {"Touch": ["cell"], "Held": ["by"], "Stopped": ["one", "other"], "BadPull": ["at"]}
 WORTHS = {"Touch": [(1, -2, 3)], "Held": [4], "Stopped": [5, 0], "BadPull": [0]}
 

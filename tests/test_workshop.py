@@ -7,8 +7,8 @@ import unittest
 from gripwood.errors import (BadCell, BadLine, BadMeasure, BadTurn, BadWay, Barred, Held, Last, Loose, NoBlock, NoCut,
                              NoPeg, NoPile, NoPlan, NotBarred, NoWood, Same, Stopped, TooMany, Torn, Touch, Whole)
 from gripwood.workshop import Workshop
-from tests.helper import (BACKS, GREAT, LINES, NO_LINES, NO_WAYS, TURNS, VECTORS, WAYS, WoodCase, answers, led_vector,
-                          place_on, spoil)
+from tests.helper import (BACKS, GREAT, LINES, NAMES, NO_LINES, NO_WAYS, STORY, TURNS, VECTORS, WAYS, WoodCase,
+                          answers, led_vector, place_on, shop_of, spoil)
 
 NO_NUMBERS = (-1, 7, 99, GREAT, -GREAT)
 NO_TURNS = [("west", "north", "up"), ("east", "east", "up"), ("", "", ""), ("north", "west", "long"),
@@ -23,11 +23,7 @@ def rods(many, long, pile=0):
 
 def done(*deeds):
     """A workshop in which these deeds were done, behind the heaping of pile 0."""
-    shop = Workshop()
-    shop.heap()
-    for name, *handed in deeds:
-        getattr(shop, name)(*handed)
-    return shop
+    return shop_of([("heap",), *deeds])
 
 
 # Blocks 0, 1, 2 lie in a row to the east, 3 lies on top of 1, and 4 far off.
@@ -907,10 +903,8 @@ class Twins(ShopCase):
 
 class Journal(ShopCase):
     def test_each_deed_as_a_tuple(self):
-        deeds = [("heap",), ("lay", 0, [(1, 0, 0), (0, 0, 0)]), ("lay", 0, [(2, 0, 0)]), ("plug", 1, (3, 0, 0)),
-                 ("peg", 0, (0, 0, 0), "east", 3), ("unpeg", 0), ("saw", 0, "long", 1), ("carve", 0, (3, 0, 0)),
-                 ("pull", 0, "up", [2, 1, 2]), ("home", 0, 1, "down"), ("turn", 0, TURNS[5]), ("shift", 0, (0, -1, 0)),
-                 ("press", 0, "west"), ("bar", "high"), ("unbar", "high"), ("draft", 0), ("burn", 1)]
+        deeds = [deed for deed, told, text in STORY]
+        self.assertEqual({name for name, *handed in deeds}, set(NAMES))
         shop = Workshop()
         for at, (name, *handed) in enumerate(deeds):
             getattr(shop, name)(*handed)

@@ -1,15 +1,12 @@
 """Promises [16] to [21]: deeds thrown at workshops by seeded chance, judged by a model that is made by the words alone."""
 
 import copy
-import random
 import unittest
 
 from gripwood import errors
 from gripwood.workshop import Workshop
-from tests.helper import LINES, NO_WAYS, TURNS, WAYS, Model, WoodCase, answers
+from tests.helper import NAMES, Model, Thrower, WoodCase, answers
 
-NAMES = ["heap", "lay", "burn", "carve", "plug", "saw", "peg", "unpeg", "pull", "home", "turn", "shift", "press", "bar",
-         "unbar", "draft"]
 KINDS = {kind().word: kind for kind in vars(errors).values() if isinstance(kind, type) and kind != errors.WoodError}
 
 # All pairs of refusals of one deed that can be due at once, but for the 200 deeds, which are due with each of them.
@@ -40,101 +37,6 @@ ALL = {
     "shift": ["no pile", "bad cell"], "press": ["bad way", "no pile"], "bar": ["bad line", "barred"],
     "unbar": ["bad line", "not barred"], "draft": ["no pile"],
 }
-LENGTHS = (-10 ** 29, -1, 0, 1, 4, 12, 13, 14, 10 ** 29)
-
-
-class Thrower:
-    """Deeds by chance over what is there in a model; now and then something that is not there."""
-
-    def __init__(self, seed, model, wrong=8):
-        self.chance = random.Random(seed)
-        self.model = model
-        self.wrong = wrong
-
-    def seldom(self):
-        return self.chance.randrange(100) < self.wrong
-
-    def one_of(self, things, others):
-        things = list(things)
-        return self.chance.choice(list(others) if self.seldom() or not things else things)
-
-    def pile(self):
-        return self.one_of(self.model.heaps, (-1, 50, 1000, 10 ** 29))
-
-    def block(self):
-        return self.one_of(self.model.wood, (-1, 300, 10 ** 29))
-
-    def way(self):
-        return self.one_of(WAYS, NO_WAYS)
-
-    def line(self):
-        return self.one_of(LINES, ("east", "", "Long", "deep"))
-
-    def cell(self):
-        side = self.chance.choice((2, 3, 31) if self.seldom() else (1, 1, 2))
-        return tuple(self.chance.randint(-side, side) for at in range(3))
-
-    def cells(self):
-        found = [self.cell()]
-        while self.chance.randrange(5) and len(found) < 6:
-            near = list(self.chance.choice(found))
-            near[self.chance.randrange(3)] += self.chance.choice((-1, 1))
-            if tuple(near) not in found:
-                found.append(tuple(near))
-        if self.seldom():
-            found = self.chance.choice(([], found + found[:1], [*found, (31, 0, 0)], [*found, self.cell()],
-                                        [*found, (0, -31, 0), found[0]]))
-        self.chance.shuffle(found)
-        return found
-
-    def wood_near(self, pile):
-        """A cell of wood of the pile, where it has some."""
-        return self.one_of(self.model.owners(pile), (self.cell(), (31, 31, 31), (0, 0, 10 ** 29)))
-
-    def group(self, pile, way):
-        own = self.model.blocks(pile)
-        found = [block for block in own if self.chance.randrange(2)]
-        if own and self.chance.randrange(3):
-            found = [self.chance.choice(own)]
-            if way in WAYS and not self.seldom():
-                found = self.model.along(pile, way, found)
-        if self.seldom():
-            found = self.chance.choice(([], own, found + found[:1], [*found, self.block()], [*found, -1]))
-        self.chance.shuffle(found)
-        return found
-
-    def near(self, block):
-        """A cell beside one of the block's, where it is there."""
-        cell = list(self.one_of(self.model.wood.get(block, (0, []))[1], (self.cell(), (30, 0, 0), (-2, 0, -30))))
-        cell[self.chance.randrange(3)] += self.chance.choice((-1, 1))
-        return tuple(cell)
-
-    def cut(self):
-        block, line = self.block(), self.line()
-        cells = self.model.wood.get(block, (0, []))[1]
-        inner = {cell[LINES.index(line)] for cell in cells} if line in LINES else ()
-        return block, line, self.one_of(sorted(inner), (-40, 0, 1, 10 ** 29))
-
-    def rod(self, pile):
-        """A cell and a way from one block into another one, where there are such; seldom into the same one."""
-        owners = self.model.owners(pile)
-        inner = [(cell, way) for cell in owners for way in WAYS if self.model.rod(cell, way, 2)[1] in owners]
-        fit = [(cell, way) for cell, way in inner if owners[cell] != owners[self.model.rod(cell, way, 2)[1]]]
-        return self.one_of(fit, inner + [(self.wood_near(pile), self.way()), (self.cell(), self.way())])
-
-    def handed(self, name):
-        pile, block, way = self.pile(), self.block(), self.way()
-        return {
-            "heap": lambda: (), "lay": lambda: (pile, self.cells()), "burn": lambda: (block,),
-            "carve": lambda: (pile, self.wood_near(pile)), "plug": lambda: (block, self.near(block)),
-            "saw": self.cut, "peg": lambda: (pile, *self.rod(pile), self.one_of((2, 2, 2, 3), LENGTHS)),
-            "unpeg": lambda: (self.one_of(self.model.rods, (-1, 99)),),
-            "pull": lambda: (pile, way, self.group(pile, way)), "home": lambda: (pile, self.pile(), way),
-            "turn": lambda: (pile, self.one_of(TURNS, [("west", "north", "up"), ("", "up", "x")])),
-            "shift": lambda: (pile, self.one_of([(0, 0, 0), (1, 0, -1), (0, 2, 0)], [(40, 0, 0), (0, 0, -10 ** 29)])),
-            "press": lambda: (pile, way), "bar": lambda: (self.line(),), "unbar": lambda: (self.line(),),
-            "draft": lambda: (pile,),
-        }[name]()
 
 
 class Judged(WoodCase):
